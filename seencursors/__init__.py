@@ -1,0 +1,1 @@
+"""Seencursors: what one knows who lists a table that is rebuilt."""

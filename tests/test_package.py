@@ -1,0 +1,110 @@
+"""The interface of the document and the plain form of the package's files."""
+
+import ast
+import builtins
+import pathlib
+import unittest
+
+FOLDER = pathlib.Path(__file__).resolve().parent.parent / "seencursors"
+
+FUNCTIONS = {
+    "bits": ["is_width(thing)", "is_hash(thing)", "bucket(code, width)"],
+    "shapes": ["is_shape(thing)", "places(shape)", "is_place(shape, thing)", "place_of(shape, code, moved)"],
+}
+CLASSES = {
+    "rules": {"Rule": [
+        "__init__(self, cursors, calls)", "cursors(self)", "shapes(self)", "calls(self)", "call(self, shape, cursor)",
+        "with_call(self, shape, cursor, call)", "__eq__(self, other)"]},
+}
+
+BUILTINS = """len range enumerate zip min max sum abs sorted reversed int str bool list tuple dict set isinstance ord any
+all divmod super property ValueError""".split()
+BARRED = (
+    ast.GeneratorExp, ast.AsyncFunctionDef, ast.Await, ast.Global, ast.Import, ast.Div, ast.SetComp, ast.Set, ast.Try,
+    ast.Lambda, ast.NamedExpr, ast.With, ast.Yield, ast.YieldFrom, ast.Match)
+
+
+def files():
+    return sorted(FOLDER.rglob("*.py"))
+
+
+def tree_of(path):
+    return ast.parse(path.read_text())
+
+
+def signatures(body):
+    return [f"{node.name}({ast.unparse(node.args)})" for node in body if isinstance(node, ast.FunctionDef)]
+
+
+class PackageTest(unittest.TestCase):
+
+    def test_functions_stand_in_their_files(self):
+        for name, wanted in FUNCTIONS.items():
+            found = signatures(tree_of(FOLDER / f"{name}.py").body)
+            for line in wanted:
+                self.assertIn(line, found, name)
+
+    def test_classes_have_their_methods_in_their_own_bodies(self):
+        for name, wanted in CLASSES.items():
+            found = {node.name: node for node in tree_of(FOLDER / f"{name}.py").body if isinstance(node, ast.ClassDef)}
+            for label, lines in wanted.items():
+                for line in lines:
+                    self.assertIn(line, signatures(found[label].body), label)
+
+    def test_the_folder_holds_python_alone(self):
+        for path in FOLDER.rglob("*"):
+            if path.is_file() and path.parent.name != "__pycache__":
+                self.assertEqual(path.suffix, ".py", path)
+
+    def test_sizes_and_characters(self):
+        for path in files():
+            lines = path.read_text().split("\n")
+            self.assertLess(len(lines), 400, path)
+            for line in lines:
+                self.assertLessEqual(len(line), 120, path)
+                self.assertTrue(all(" " <= sign <= "~" for sign in line), (path, line))
+            for node in ast.walk(tree_of(path)):
+                if isinstance(node, ast.FunctionDef):
+                    self.assertLessEqual(node.end_lineno - node.lineno, 39, (path, node.name))
+
+    def test_plain_statements(self):
+        for path in files():
+            for node in ast.walk(tree_of(path)):
+                barred = isinstance(node, BARRED) and not self.is_set_in_sorted(path, node)
+                self.assertFalse(barred, (path, getattr(node, "lineno", 0)))
+                if isinstance(node, ast.ImportFrom):
+                    self.assertEqual((node.module or "").split(".")[0], "seencursors", path)
+                if isinstance(node, ast.FunctionDef):
+                    self.assertIn([ast.unparse(mark) for mark in node.decorator_list], ([], ["property"]), path)
+                if isinstance(node, ast.Constant) and isinstance(node.value, str):
+                    self.assertNotIn("%", node.value, path)
+
+    def is_set_in_sorted(self, path, node):
+        """A set comprehension stands directly in sorted or len."""
+        calls = [call for call in ast.walk(tree_of(path)) if isinstance(call, ast.Call)]
+        heads = [ast.dump(call.args[0], include_attributes=True) for call in calls
+                 if isinstance(call.func, ast.Name) and call.func.id in ("sorted", "len") and len(call.args) == 1]
+        return isinstance(node, ast.SetComp) and ast.dump(node, include_attributes=True) in heads
+
+    def test_builtins(self):
+        for path in files():
+            for node in ast.walk(tree_of(path)):
+                if isinstance(node, ast.Name) and hasattr(builtins, node.id):
+                    self.assertIn(node.id, BUILTINS, path)
+                    self.assertIsInstance(node.ctx, ast.Load, (path, node.id))
+                if isinstance(node, ast.arg):
+                    self.assertFalse(hasattr(builtins, node.arg), (path, node.arg))
+
+    def test_no_name_of_an_import_is_used_for_something_else(self):
+        for path in files():
+            imported = [name.name for node in ast.walk(tree_of(path)) if isinstance(node, ast.ImportFrom)
+                        for name in node.names]
+            for node in ast.walk(tree_of(path)):
+                if isinstance(node, ast.Name) and isinstance(node.ctx, ast.Store):
+                    self.assertNotIn(node.id, imported, path)
+                if isinstance(node, ast.arg):
+                    self.assertNotIn(node.arg, imported, path)
+            self.assertEqual(len(imported), len(set(imported)), path)
+            for name in imported:
+                used = [node for node in ast.walk(tree_of(path)) if isinstance(node, ast.Name) and node.id == name]
+                self.assertTrue(used, (path, name))
