@@ -10,11 +10,22 @@ FOLDER = pathlib.Path(__file__).resolve().parent.parent / "seencursors"
 FUNCTIONS = {
     "bits": ["is_width(thing)", "is_hash(thing)", "bucket(code, width)"],
     "shapes": ["is_shape(thing)", "places(shape)", "is_place(shape, thing)", "place_of(shape, code, moved)"],
+    "roads": ["full_road(shapes)"],
+    "texts": ["format_rule(rule)", "format_road(road)", "parse_rule(text)", "parse_road(text)"],
+    "runs": [
+        "is_run(rule, road, thing)", "cursors_of(rule, road, run)", "lists_of(rule, road, run)",
+        "is_whole(rule, road, run)", "listed(rule, road, run, code)"],
+    "missed": [
+        "missed_run(rule, road, code)", "closed_set(rule, road, code)", "is_closed(rule, road, code, thing)",
+        "concerns(rule, road, code)"],
 }
 CLASSES = {
     "rules": {"Rule": [
         "__init__(self, cursors, calls)", "cursors(self)", "shapes(self)", "calls(self)", "call(self, shape, cursor)",
         "with_call(self, shape, cursor, call)", "__eq__(self, other)"]},
+    "roads": {"Road": [
+        "__init__(self, begin, changes)", "begin(self)", "changes(self)", "shapes(self)", "behind(self, shape)",
+        "without(self, changes)", "with_change(self, change)", "__eq__(self, other)"]},
 }
 
 BUILTINS = """len range enumerate zip min max sum abs sorted reversed int str bool list tuple dict set isinstance ord any
