@@ -28,11 +28,11 @@ CLASSES = {
         "without(self, changes)", "with_change(self, change)", "__eq__(self, other)"]},
 }
 
-BUILTINS = """len range enumerate zip min max sum abs sorted reversed int str bool list tuple dict set isinstance ord any
-all divmod super property ValueError""".split()
-BARRED = (
-    ast.GeneratorExp, ast.AsyncFunctionDef, ast.Await, ast.Global, ast.Import, ast.Div, ast.SetComp, ast.Set, ast.Try,
-    ast.Lambda, ast.NamedExpr, ast.With, ast.Yield, ast.YieldFrom, ast.Match)
+BUILTINS = """len range enumerate zip min max sum abs sorted reversed int str bool bytes list tuple dict set frozenset
+isinstance ord repr any all divmod pow iter next map super property staticmethod classmethod NotImplemented Exception
+ValueError TypeError KeyError IndexError LookupError ZeroDivisionError RuntimeError StopIteration""".split()
+# Generator expressions are barred beside a class with __eq__ where the package would want them.
+BARRED = (ast.GeneratorExp, ast.AsyncFunctionDef, ast.AsyncFor, ast.AsyncWith, ast.Await, ast.Import, ast.Div, ast.SetComp)
 
 
 def files():
