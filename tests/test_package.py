@@ -32,7 +32,8 @@ BUILTINS = """len range enumerate zip min max sum abs sorted reversed int str bo
 isinstance ord repr any all divmod pow iter next map super property staticmethod classmethod NotImplemented Exception
 ValueError TypeError KeyError IndexError LookupError ZeroDivisionError RuntimeError StopIteration""".split()
 # Generator expressions are barred beside a class with __eq__ where the package would want them.
-BARRED = (ast.GeneratorExp, ast.AsyncFunctionDef, ast.AsyncFor, ast.AsyncWith, ast.Await, ast.Import, ast.Div, ast.SetComp)
+BARRED = (
+    ast.GeneratorExp, ast.AsyncFunctionDef, ast.AsyncFor, ast.AsyncWith, ast.Await, ast.Import, ast.Div, ast.SetComp)
 
 
 def files():

@@ -8,7 +8,8 @@ from model import shapes_after, some_worlds
 
 A, AB, B = (0,), (0, 1), (1,)
 CHANGES = [(AB, B), (A, AB)]
-NO_SHAPES = [thing for thing in ODD if thing != A] + [(6,), (1, 1), (True,), (False,), (0, True), (0, 1, 2), [1], ("1",)]
+NO_SHAPES = [thing for thing in ODD if thing != A] + [
+    (6,), (1, 1), (True,), (False,), (0, True), (0, 1, 2), [1], ("1",)]
 NO_CHANGES = ODD + [
     (A,), (A, A), (AB, AB), (A, AB, B), [A, AB], (A, (True,)), ((False,), B), (A, (6,)), ((1, 1), A), (0, 1),
     ("0", "1"), (A, None), (A, [1]), ([0], B), ((A, B),), ((A, B), (B, A)), {A: B}]

@@ -123,7 +123,8 @@ class TextsTest(Case):
         self.wrong_road("\n".join(rows[3:]), 0)
 
     def test_lines_doubled(self):
-        for text, wrong, lines in [(RULE, self.wrong_rule, [1, 2, 4, 4, 5, 7, 7]), (ROAD, self.wrong_road, range(1, 7))]:
+        for text, wrong, lines in [
+                (RULE, self.wrong_rule, [1, 2, 4, 4, 5, 7, 7]), (ROAD, self.wrong_road, range(1, 7))]:
             rows = text.split("\n")
             for index, line in enumerate(lines):
                 wrong("\n".join(rows[:index + 1] + rows[index:]), line)
@@ -151,14 +152,14 @@ class TextsTest(Case):
     def test_lines_with_words_in_wrong_order(self):
         for index in range(4):
             self.wrong_lines("cursors 3\nshape 1\ncall end\ncall end", index, [
-                "call", "call next", "call next x", "call 0.0", "call 0.0 next", "call 0.0 1", "call 1", "next 1", "end",
-                "call end end", "call next 1 end", "call end next 1", "call next 1 next 1", "call next 1 0.0",
+                "call", "call next", "call next x", "call 0.0", "call 0.0 next", "call 0.0 1", "call 1", "next 1",
+                "end", "call end end", "call next 1 end", "call end next 1", "call next 1 next 1", "call next 1 0.0",
                 "call end 0.0", "call 0.0 0.0 end", "call 0.1 0.0 end", "call 0.2 end", "call 1.0 end", "call 0 end",
                 "call 0.0.0 end", "call . end", "call 0. end", "call .0 end", "call 0.-1 end", "call 0.00 end",
-                "call 00.0 end", "call 0,0 end", "call 0>0 end", "call 0.0  end", "call  end", "call next 3", "call next",
+                "call 00.0 end", "call 0,0 end", "call 0>0 end", "call 0.0  end", "call  end", "call next 3",
                 "call next  1", "call next -1", "call next +1", "call next 01", "call next None", "call next 0.0",
-                "shape", "shape ", "shape 1 1", "shape 6", "shape -1", "shape 01", "shape 1>1", "shape 0>1>2", "shape >",
-                "shape 1>", "shape >1", "shape 0.1", "shape True", "shapes 0", "cursors", "cursors 0", "cursors 65",
+                "shape", "shape ", "shape 1 1", "shape 6", "shape -1", "shape 01", "shape 1>1", "shape 0>1>2",
+                "shape >", "shape 1>", "shape >1", "shape 0.1", "shape True", "shapes 0", "cursors", "cursors 0", "cursors 65",
                 "cursors -1", "cursors +1", "cursors 01", "cursors 1 1", "begin 0", "change 0 1"], self.wrong_rule)
 
     def test_lines_of_roads_with_wrong_words(self):
