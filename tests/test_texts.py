@@ -159,7 +159,8 @@ class TextsTest(Case):
                 "call 00.0 end", "call 0,0 end", "call 0>0 end", "call 0.0  end", "call  end", "call next 3",
                 "call next  1", "call next -1", "call next +1", "call next 01", "call next None", "call next 0.0",
                 "shape", "shape ", "shape 1 1", "shape 6", "shape -1", "shape 01", "shape 1>1", "shape 0>1>2",
-                "shape >", "shape 1>", "shape >1", "shape 0.1", "shape True", "shapes 0", "cursors", "cursors 0", "cursors 65",
+                "shape >", "shape 1>", "shape >1", "shape 0.1", "shape True", "shapes 0", "cursors", "cursors 0",
+                "cursors 65",
                 "cursors -1", "cursors +1", "cursors 01", "cursors 1 1", "begin 0", "change 0 1"], self.wrong_rule)
 
     def test_lines_of_roads_with_wrong_words(self):
