@@ -2,9 +2,11 @@
 
 from seencursors.bits import is_number
 from seencursors.errors import InvalidCall, InvalidRule, UnknownCursor, UnknownShape
-from seencursors.shapes import is_place, is_shape
+from seencursors.shapes import is_place, is_shape, left_out
 
 MOST_CURSORS = 64
+# What stands in a trace for a call that ends the listing.
+END = -1
 
 
 def is_ascending(shape, thing):
@@ -44,6 +46,11 @@ class Rule:
             raise InvalidRule("a rule has 1 to 64 cursors, and for each of its shapes a call for each cursor")
         self._cursors = cursors
         self._calls = {shape: list(calls[shape]) for shape in sorted(calls)}
+        # Worked out once, as most questions ask for them again and again.
+        self._numbers = {
+            shape: tuple([END if later is None else later for _, later in row]) for shape, row in self._calls.items()}
+        self._gaps = {
+            shape: tuple([left_out(shape, listing) for listing, _ in row]) for shape, row in self._calls.items()}
 
     @property
     def cursors(self):
@@ -64,6 +71,14 @@ class Rule:
         """The call with a shape and a cursor."""
         self._check_state(shape, cursor)
         return self._calls[shape][cursor]
+
+    def numbers_with(self, shape):
+        """A tuple of the numbers that stand in a trace for the calls with one of the shapes, for each cursor."""
+        return self._numbers[shape]
+
+    def gaps_with(self, shape):
+        """A tuple of what the calls with one of the shapes leave out, as left_out tells it, for each cursor."""
+        return self._gaps[shape]
 
     def with_call(self, shape, cursor, call):
         """The rule in which the call with a shape and a cursor is another one."""

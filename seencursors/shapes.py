@@ -1,6 +1,6 @@
 """Shapes of a table, and the places that they have."""
 
-from seencursors.bits import bucket, check_hash, is_number, is_width
+from seencursors.bits import ALL_HASHES, FIRST_BUCKETS, bucket, check_hash, is_number, is_width
 from seencursors.errors import InvalidMove, InvalidShape
 
 
@@ -8,9 +8,9 @@ def is_shape(thing):
     """Whether a thing is a shape."""
     if not isinstance(thing, tuple) or len(thing) not in (1, 2):
         return False
-    if not all([is_width(width) for width in thing]):
-        return False
-    return len(thing) == 1 or thing[0] != thing[1]
+    if len(thing) == 1:
+        return is_width(thing[0])
+    return is_width(thing[0]) and is_width(thing[1]) and thing[0] != thing[1]
 
 
 def check_shape(shape):
@@ -41,8 +41,8 @@ def moves(shape):
 
 def is_move(shape, thing):
     """Whether moved can be a thing with a shape."""
-    # 0 and 1 equal bools, so that they are no bools is asked first.
-    return isinstance(thing, bool) and thing in moves(shape)
+    # 0 and 1 equal bools, but are none.
+    return thing is False or (thing is True and len(shape) == 2)
 
 
 def place_of(shape, code, moved):
@@ -53,3 +53,11 @@ def place_of(shape, code, moved):
         raise InvalidMove("moved is a bool, and False with one table")
     table = 1 if moved else 0
     return (table, bucket(code, shape[table]))
+
+
+def left_out(shape, listing):
+    """The hashes that a list of different places leaves out, as bits: a tuple with those for each moved."""
+    left = [ALL_HASHES] * len(shape)
+    for table, number in listing:
+        left[table] ^= FIRST_BUCKETS[shape[table]] << number
+    return tuple(left)

@@ -10,7 +10,7 @@ from seencursors.runs import is_run, is_whole, listed
 from seencursors.texts import parse_rule
 
 from helpers import LARGE, NO_INTEGERS, ODD, TWELVE, Case, places_of
-from model import is_closed_by_words, least_missed, runs_by_length, some_calls, some_worlds, tells
+from model import World, is_closed_by_words, some_calls, some_worlds
 
 WORDS = "cursors 2\nshape 0\ncall 0.0 end\ncall end\nshape 1\ncall 0.0 next 1\ncall 0.1 end"
 MOVING = "cursors 2\nshape 0>1\ncall 0.0 next 1\ncall 1.1 next 0\nshape 1\ncall 0.0 next 1\ncall 0.1 end"
@@ -86,9 +86,10 @@ class MissedTest(Case):
 
     def test_against_the_words(self):
         seen = {True: 0, False: 0}
-        for cursors, calls, begin, changes, rule, road in some_worlds(21, 250):
+        for world in some_worlds(21, 250):
+            rule, road = world.rule, world.road
             for code in (0, 1, 2, 3, 31):
-                wanted = least_missed(calls, begin, changes, code, 4 * cursors * len(calls) + 1)
+                wanted = world.least_missed(code)
                 self.keeps(wanted, missed_run, rule, road, code)
                 found = closed_set(rule, road, code)
                 seen[found is None] += 1
@@ -98,56 +99,49 @@ class MissedTest(Case):
                     self.assertNotIn(True, listed(rule, road, wanted, code))
                 else:
                     self.same(found, sorted(found))
-                    self.assertIs(is_closed_by_words(calls, begin, changes, code, found), True)
+                    self.assertIs(is_closed_by_words(world, code, found), True)
                     self.assertIs(is_closed(rule, road, code, found), True)
         self.assertGreater(min(seen.values()), 200)
 
     def test_shortest_by_trying_all_runs(self):
-        for _, calls, begin, changes, rule, road in some_worlds(22, 60, most_shapes=2, most_cursors=2):
-            levels = runs_by_length(calls, begin, changes, 5)
+        for world in some_worlds(22, 60, most_shapes=2, most_cursors=2):
+            runs = world.runs(5)
             for code in (0, 3):
-                missed = [[run for run, cursors in rows if cursors[-1] is None and not any(
-                    tells(calls, code, *step, at) for step, at in zip(run, cursors))] for rows in levels]
-                shortest = [min(runs) for runs in missed if runs]
-                found = missed_run(rule, road, code)
-                if shortest or found is not None and len(found) <= 5:
-                    self.same(found, shortest[0])
+                missed = [(len(run), run) for run, parts in runs
+                          if world.later(parts[-1]) is None and world.waits(code, parts)]
+                found = missed_run(world.rule, world.road, code)
+                if missed or found is not None and len(found) <= 5:
+                    self.same(found, min(missed)[1])
 
     def test_concerns_against_the_words(self):
-        for _, calls, begin, changes, rule, road in some_worlds(23, 60, most_shapes=2, most_cursors=2):
-            levels = runs_by_length(calls, begin, changes, 6)
+        for world in some_worlds(23, 60, most_shapes=2, most_cursors=2):
+            runs = world.runs(6)
             for code in (0, 1, 2):
-                wanted = set()
-                for rows in levels:
-                    for run, cursors in rows:
-                        if not any(tells(calls, code, *step, at) for step, at in zip(run[:-1], cursors)):
-                            wanted.add((run[-1][0], cursors[-2]))
-                self.keeps(sorted(wanted), concerns, rule, road, code)
+                wanted = {(parts[-1][0], parts[-1][2]) for _, parts in runs if world.waits(code, parts[:-1])}
+                self.keeps(sorted(wanted), concerns, world.rule, world.road, code)
 
     def test_near_a_closed_set(self):
         wrong = 0
-        for _, calls, begin, changes, rule, road in some_worlds(24, 60, widths=(0, 1)):
+        for world in some_worlds(24, 60, widths=(0, 1)):
+            rule, road = world.rule, world.road
             rows = closed_set(rule, road, 1)
             if rows is None:
                 continue
             self.assertIs(is_closed(rule, road, 1, rows[::-1]), True)
             self.assertIs(is_closed(rule, road, 1, tuple(rows)), False)
-            everything = [(shape, moved, at) for shape in road.shapes for moved in (False, True)
-                          for at in range(rule.cursors) if len(shape) == 2 or not moved]
+            everything = world.situations()
             for part in rows:
                 self.assertIs(is_closed(rule, road, 1, rows + [part]), False)
                 rest = [other for other in rows if other != part]
-                wanted = is_closed_by_words(calls, begin, changes, 1, rest)
+                wanted = is_closed_by_words(world, 1, rest)
                 self.assertIs(is_closed(rule, road, 1, rest), wanted)
                 wrong += not wanted
             for part in everything:
                 if part not in rows:
-                    wanted = is_closed_by_words(calls, begin, changes, 1, rows + [part])
+                    wanted = is_closed_by_words(world, 1, rows + [part])
                     self.assertIs(is_closed(rule, road, 1, [part] + rows), wanted)
                     wrong += not wanted
-            if rule.cursors > 1:
-                self.assertIs(is_closed(rule, road, 1, everything), is_closed_by_words(
-                    calls, begin, changes, 1, everything))
+            self.assertIs(is_closed(rule, road, 1, everything), is_closed_by_words(world, 1, everything))
         self.assertGreater(wrong, 100)
 
     def test_things_that_are_no_closed_sets(self):
@@ -193,13 +187,14 @@ class MissedTest(Case):
 
     def test_what_another_call_changes(self):
         source = random.Random(25)
-        for cursors, calls, _, _, rule, road in some_worlds(25, 60):
+        for world in some_worlds(25, 60):
+            rule, road = world.rule, world.road
             for code in (0, 3):
                 states = concerns(rule, road, code)
-                for shape in calls:
-                    for cursor in range(cursors):
+                for shape in world.calls:
+                    for cursor in range(world.cursors):
                         if (shape, cursor) not in states:
-                            other = rule.with_call(shape, cursor, some_calls(source, cursors, [shape])[shape][0])
+                            other = rule.with_call(shape, cursor, some_calls(source, world.cursors, [shape])[shape][0])
                             self.same(missed_run(other, road, code), missed_run(rule, road, code))
                             self.same(concerns(other, road, code), states)
 
@@ -224,10 +219,10 @@ class MissedTest(Case):
     def test_many_cursors_at_random(self):
         source = random.Random(26)
         for ends in (0.0, 0.01, 0.05):
-            calls = some_calls(source, 64, TWELVE, ends, 0.6)
-            rule, road = Rule(64, calls), full_road(TWELVE)
+            world = World(64, some_calls(source, 64, TWELVE, ends, 0.6), TWELVE, full_road(TWELVE).changes)
+            rule, road = world.rule, world.road
             for code in (0, 31):
-                wanted = least_missed(calls, road.begin, road.changes, code, 64)
+                wanted = world.least_missed(code, 30)
                 self.same(missed_run(rule, road, code), wanted)
                 rows = closed_set(rule, road, code)
                 self.assertIs(rows is None, wanted is not None)

@@ -4,7 +4,7 @@ from seencursors.errors import InvalidRoad, UnknownChange, UnknownShape
 from seencursors.roads import Road, full_road
 
 from helpers import ODD, SHAPES, TWELVE, Case
-from model import shapes_after, some_worlds
+from model import some_worlds
 
 A, AB, B = (0,), (0, 1), (1,)
 CHANGES = [(AB, B), (A, AB)]
@@ -41,12 +41,12 @@ class RoadsTest(Case):
         self.same(road.behind((3,)), [(3,)])
 
     def test_behind_in_many_roads(self):
-        for _, calls, begin, changes, _, road in some_worlds(3, 60):
-            self.same(road.begin, sorted(begin))
-            self.same(road.changes, sorted(changes))
-            self.same(road.shapes, sorted(set(begin) | {shape for change in changes for shape in change}))
-            for shape in road.shapes:
-                self.keeps(shapes_after(changes, shape), road.behind, shape)
+        for world in some_worlds(3, 60):
+            self.same(world.road.begin, sorted(world.begin))
+            self.same(world.road.changes, sorted(world.changes))
+            self.same(world.road.shapes, world.shapes)
+            for shape in world.shapes:
+                self.keeps(world.after(shape), world.road.behind, shape)
 
     def test_all_shapes(self):
         for shape in SHAPES:

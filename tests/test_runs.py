@@ -1,6 +1,7 @@
 """Promises 2, 7, 8 and 15: runs."""
 
 import itertools
+import sys
 
 from seencursors.errors import InvalidHash, InvalidRun, Mismatch
 from seencursors.roads import Road, full_road
@@ -8,8 +9,8 @@ from seencursors.rules import Rule
 from seencursors.runs import cursors_of, is_run, is_whole, listed, lists_of
 from seencursors.texts import parse_rule
 
-from helpers import LARGE, NO_INTEGERS, ODD, TWELVE, Case, moved_with, places_of
-from model import runs_by_length, some_worlds, tells
+from helpers import LARGE, NO_INTEGERS, ODD, SHAPES, TWELVE, Case, moved_with, places_of
+from model import some_worlds
 
 WORDS = "cursors 2\nshape 0\ncall 0.0 end\ncall end\nshape 1\ncall 0.0 next 1\ncall 0.1 end"
 MOVING = "cursors 2\nshape 0>1\ncall 0.0 next 1\ncall 1.1 next 0\nshape 1\ncall 0.0 next 1\ncall 0.1 end"
@@ -80,23 +81,22 @@ class RunsTest(Case):
         self.assertIs(is_run(self.moving, Road([(1,)], []), [((1,), False), ((0, 1), True)]), False)
 
     def test_exactly_the_runs(self):
-        for _, calls, begin, changes, rule, road in some_worlds(11, 25, widths=(0, 1), most_shapes=2):
-            steps = [(shape, moved) for shape in [(0,), (1,), (0, 1), (1, 0)] for moved in (False, True)]
-            for length, rows in enumerate(runs_by_length(calls, begin, changes, 3), 1):
-                wanted = [run for run, _ in rows]
+        steps = [(shape, moved) for shape in [(0,), (1,), (0, 1), (1, 0)] for moved in (False, True)]
+        for world in some_worlds(11, 25, widths=(0, 1), most_shapes=2):
+            wanted = [run for run, _ in world.runs(3)]
+            for length in (1, 2, 3):
                 for run in itertools.product(steps, repeat=length):
-                    self.assertIs(is_run(rule, road, list(run)), list(run) in wanted)
+                    self.assertIs(is_run(world.rule, world.road, list(run)), list(run) in wanted)
 
     def test_what_is_said_of_runs(self):
-        for _, calls, begin, changes, rule, road in some_worlds(12, 40):
-            for rows in runs_by_length(calls, begin, changes, 4):
-                for run, cursors in rows[::max(1, len(rows) // 20)]:
-                    self.same(cursors_of(rule, road, run), cursors[:-1])
-                    self.same(is_whole(rule, road, run), cursors[-1] is None)
-                    self.same(lists_of(rule, road, run), [calls[step[0]][at][0] for step, at in zip(run, cursors)])
-                    for code in (0, 1, 2, 3, 30, 31):
-                        self.same(listed(rule, road, run, code), [
-                            tells(calls, code, *step, at) for step, at in zip(run, cursors)])
+        for world in some_worlds(12, 40):
+            rule, road, runs = world.rule, world.road, world.runs(4)
+            for run, parts in runs[:20] + runs[20::max(1, len(runs) // 50)]:
+                self.keeps([cursor for _, _, cursor in parts], cursors_of, rule, road, run)
+                self.same(is_whole(rule, road, run), world.later(parts[-1]) is None)
+                self.keeps([world.calls[shape][cursor][0] for shape, _, cursor in parts], lists_of, rule, road, run)
+                for code in (0, 1, 2, 3, 30, 31):
+                    self.keeps([world.tells(code, part) for part in parts], listed, rule, road, run, code)
 
     def test_each_hash(self):
         rule = Rule(1, {(3, 5): [(((0, 2), (0, 7), (1, 0), (1, 31)), 0)], (5,): [(((0, 0), (0, 30)), 0)]})
@@ -104,6 +104,15 @@ class RunsTest(Case):
         for code in range(32):
             run = [((3, 5), False), ((3, 5), True), ((5,), False)]
             self.same(listed(rule, road, run, code), [code % 8 in (2, 7), code in (0, 31), code in (0, 30)])
+
+    def test_each_place(self):
+        for shape in SHAPES:
+            for place in places_of(shape):
+                rule, road = Rule(1, {shape: [((place,), 0)]}), full_road([shape])
+                for moved in moved_with(shape):
+                    told = [listed(rule, road, [(shape, moved)], code)[0] for code in range(32)]
+                    wanted = [place == (int(moved), code % 2 ** shape[moved]) for code in range(32)]
+                    self.same(told, wanted)
 
     def test_mismatch_comes_first(self):
         for road in [Road([(0,), (2,)], []), Road([(0,)], [((0,), (0, 1))]), full_road([(3,)])]:
@@ -137,6 +146,20 @@ class RunsTest(Case):
         run = [((0,), False)] * 4000
         self.same([is_run(rule, Road([(0,)], []), run), is_whole(rule, Road([(0,)], []), run)], [True, False])
         self.same(cursors_of(rule, Road([(0,)], []), run), [0] * 4000)
+
+    def test_long_runs_are_gone_through_once(self):
+        rule, road = Rule(2, {(0,): [(((0, 0),), 1), ((), 0)]}), Road([(0,)], [])
+        run = [((0,), False)] * 1000
+        self.keeps([True, False] * 500, listed, rule, road, run, 5)
+        for function, rest in [(is_run, []), (cursors_of, []), (lists_of, []), (is_whole, []), (listed, [5])]:
+            calls = []
+            sys.setprofile(lambda frame, event, thing: calls.append(event) if event == "call" else None)
+            try:
+                function(rule, road, run, *rest)
+            finally:
+                sys.setprofile(None)
+            # So many functions are called for each call of the run; a second way through it would take as many again.
+            self.assertLess(len(calls), 10 * len(run), function)
 
     def test_moved_of_each_shape(self):
         for shape in TWELVE:

@@ -62,7 +62,8 @@ class TextsTest(Case):
         self.same(parse_road("begin 2").changes, [])
 
     def test_there_and_back(self):
-        for _, _, _, _, rule, road in some_worlds(5, 80, widths=(0, 1, 2, 3, 4, 5)):
+        for world in some_worlds(5, 80, widths=(0, 1, 2, 3, 4, 5)):
+            rule, road = world.rule, world.road
             self.assertEqual(parse_rule(format_rule(rule)), rule)
             self.assertEqual(parse_road(format_road(road)), road)
             self.same(format_rule(parse_rule(format_rule(rule))), format_rule(rule))
