@@ -18,6 +18,26 @@ FUNCTIONS = {
     "missed": [
         "missed_run(rule, road, code)", "closed_set(rule, road, code)", "is_closed(rule, road, code, thing)",
         "concerns(rule, road, code)"],
+    "smallest": ["apart(rule, other)", "pairs(rule, other)", "smallest(rule)"],
+    "waits": [
+        "longest_wait(rule, road, code)", "wait_heights(rule, road, code, number)",
+        "is_wait_heights(rule, road, code, number, thing)", "waiting_loop(rule, road, code)",
+        "is_waiting_loop(rule, road, code, thing)"],
+    "switches": [
+        "fewest_switches(rule, road, code)", "switch_levels(rule, road, code, number)",
+        "is_switch_levels(rule, road, code, number, thing)", "weakest(rule, road)"],
+    "trades": [
+        "trade(rule, road, code)", "fronts(rule, road, code, pairs)", "is_fronts(rule, road, code, pairs, thing)"],
+    "traces": [
+        "trace_of(rule, road, run)", "is_trace(rule, road, thing)", "shapes_at(rule, road, trace)",
+        "nexts(rule, road, trace)"],
+    "doubts": [
+        "in_doubt(rule, road, trace)", "doubt_run(rule, road, trace, code)", "chain(rule, road, trace, code)",
+        "is_chain(rule, road, trace, code, thing)"],
+    "hindsight": [
+        "hindsight(rule, road, trace)", "run_with(rule, road, trace, index, shape)",
+        "barrier(rule, road, trace, index, shape)", "is_barrier(rule, road, trace, index, shape, thing)"],
+    "stops": ["latest_stop(rule, road)", "stop_paper(rule, road, number)", "is_stop_paper(rule, road, number, thing)"],
 }
 CLASSES = {
     "rules": {"Rule": [
@@ -30,7 +50,8 @@ CLASSES = {
 
 BUILTINS = """len range enumerate zip min max sum abs sorted reversed int str bool bytes list tuple dict set frozenset
 isinstance ord repr any all divmod pow iter next map super property staticmethod classmethod NotImplemented Exception
-ValueError TypeError KeyError IndexError LookupError ZeroDivisionError RuntimeError StopIteration""".split()
+ValueError TypeError KeyError IndexError LookupError ZeroDivisionError RuntimeError StopIteration type""".split()
+LIBRARY = {"heapq": ["heapify", "heappop", "heappush"]}
 # Generator expressions are barred beside a class with __eq__ where the package would want them.
 BARRED = (
     ast.GeneratorExp, ast.AsyncFunctionDef, ast.AsyncFor, ast.AsyncWith, ast.Await, ast.Import, ast.Div, ast.SetComp)
@@ -84,7 +105,9 @@ class PackageTest(unittest.TestCase):
             for node in ast.walk(tree_of(path)):
                 barred = isinstance(node, BARRED) and not self.is_set_in_sorted(path, node)
                 self.assertFalse(barred, (path, getattr(node, "lineno", 0)))
-                if isinstance(node, ast.ImportFrom):
+                if isinstance(node, ast.ImportFrom) and node.module in LIBRARY:
+                    self.assertLessEqual({name.name for name in node.names}, set(LIBRARY[node.module]), path)
+                elif isinstance(node, ast.ImportFrom):
                     self.assertEqual((node.module or "").split(".")[0], "seencursors", path)
                 if isinstance(node, ast.FunctionDef):
                     self.assertIn([ast.unparse(mark) for mark in node.decorator_list], ([], ["property"]), path)
@@ -106,6 +129,34 @@ class PackageTest(unittest.TestCase):
                     self.assertIsInstance(node.ctx, ast.Load, (path, node.id))
                 if isinstance(node, ast.arg):
                     self.assertFalse(hasattr(builtins, node.arg), (path, node.arg))
+
+    def test_type_is_asked_beside_a_class_alone(self):
+        for path in files():
+            tree = tree_of(path)
+            right = [node.left for node in ast.walk(tree) if isinstance(node, ast.Compare)
+                     and len(node.ops) == 1 and isinstance(node.ops[0], (ast.Is, ast.IsNot))
+                     and isinstance(node.comparators[0], ast.Name)]
+            for node in ast.walk(tree):
+                if isinstance(node, ast.Call) and isinstance(node.func, ast.Name) and node.func.id == "type":
+                    self.assertIn(node, right, (path, node.lineno))
+
+    def test_is_stands_beside_plain_values(self):
+        for path in files():
+            for node in ast.walk(tree_of(path)):
+                if isinstance(node, ast.Compare) and any(isinstance(op, (ast.Is, ast.IsNot)) for op in node.ops):
+                    about = node.comparators[0]
+                    plain = isinstance(about, ast.Constant) and repr(about.value) in ("None", "True", "False")
+                    self.assertTrue(plain or ast.unparse(node.left).startswith("type("), (path, node.lineno))
+
+    def test_no_two_files_import_from_each_other(self):
+        ahead = {path.stem: [node.module.split(".")[1] for node in tree_of(path).body
+                             if isinstance(node, ast.ImportFrom) and node.module.startswith("seencursors.")]
+                 for path in files()}
+        while ahead:
+            free = [name for name, wanted in ahead.items() if not set(wanted) & set(ahead)]
+            self.assertTrue(free, ahead)
+            for name in free:
+                del ahead[name]
 
     def test_no_name_of_an_import_is_used_for_something_else(self):
         for path in files():
