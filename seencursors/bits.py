@@ -48,6 +48,12 @@ def check_number(number):
         raise InvalidNumber("the number is an integer from 0 on")
 
 
+def check_most(most, greatest):
+    """Raise InvalidNumber if the number is no integer from 1 to the greatest one."""
+    if not is_number(most, 1, greatest):
+        raise InvalidNumber(f"the number is an integer from 1 to {greatest}")
+
+
 def bucket(code, width):
     """The number of the bucket of a hash in a table of a width."""
     if not is_width(width):

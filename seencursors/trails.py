@@ -10,10 +10,15 @@ def cursors_along(trace):
     return ([0] + trace)[:len(trace)]
 
 
+def fitting_calls(ways, cursors, numbers):
+    """For each of some cursors the ascending list of the shapes whose calls go on with its number, or end if END."""
+    return [[shape for shape, row in ways.numbers.items() if row[cursor] == number]
+            for cursor, number in zip(cursors, numbers)]
+
+
 def fitting(ways, trace):
     """For each number of a trace the ascending list of the shapes whose calls go on with it, or end if it is END."""
-    return [[shape for shape, row in ways.numbers.items() if row[cursor] == number]
-            for cursor, number in zip(cursors_along(trace), trace)]
+    return fitting_calls(ways, cursors_along(trace), trace)
 
 
 def after(ways, shapes):

@@ -38,6 +38,17 @@ FUNCTIONS = {
         "hindsight(rule, road, trace)", "run_with(rule, road, trace, index, shape)",
         "barrier(rule, road, trace, index, shape)", "is_barrier(rule, road, trace, index, shape, thing)"],
     "stops": ["latest_stop(rule, road)", "stop_paper(rule, road, number)", "is_stop_paper(rule, road, number, thing)"],
+    "clear": ["first_clear(rule, road, most)", "doubt_book(rule, road, most)", "is_doubt_book(rule, road, most, thing)"],
+    "surprises": ["surprise(rule, road)", "calm_set(rule, road)", "is_calm_set(rule, road, thing)"],
+    "marks": [
+        "sights(rule, shape, cursor, marks)", "is_story(rule, road, marks, thing)",
+        "shapes_behind(rule, road, marks, story)", "next_sights(rule, road, marks, story)",
+        "doubts_behind(rule, road, marks, story)", "witness(rule, road, marks, story, code)",
+        "is_witness(rule, road, marks, story, code, thing)", "story_chain(rule, road, marks, story, code)",
+        "is_story_chain(rule, road, marks, story, code, thing)", "first_clear_story(rule, road, marks, most)"],
+    "plans": [
+        "plan(rule, road, most)", "is_plan(rule, road, most, thing)", "holdout(rule, road, most)",
+        "is_holdout(rule, road, most, thing)"],
 }
 CLASSES = {
     "rules": {"Rule": [
