@@ -57,6 +57,26 @@ CLASSES = {
     "roads": {"Road": [
         "__init__(self, begin, changes)", "begin(self)", "changes(self)", "shapes(self)", "behind(self, shape)",
         "without(self, changes)", "with_change(self, change)", "__eq__(self, other)"]},
+    "watches": {"Watch": [
+        "__init__(self, rule, road)", "see(self, number)", "undo(self)", "rule(self)", "road(self)", "trace(self)",
+        "shapes(self)", "nexts(self)", "doubts(self)", "has_ended(self)", "is_clear(self)", "is_sure(self, code)",
+        "__len__(self)", "copy(self)"]},
+    "tables": {"Table": [
+        "__init__(self, width)", "put(self, name, code)", "drop(self, name)", "start(self, width)", "move(self, count)",
+        "shape(self)", "names(self)", "moved(self)", "code_of(self, name)", "is_moved(self, name)", "at(self, place)",
+        "copy(self)"]},
+    "desks": {"Desk": [
+        "__init__(self, rule, width)", "put(self, name, code)", "drop(self, name)", "start(self, width)",
+        "move(self, count)", "enter(self, label)", "step(self, label)", "undo(self)", "rule(self)", "shape(self)",
+        "names(self)", "moved(self)", "told(self, label)", "stayed(self, label)", "run_of(self, label, name)",
+        "is_over(self, label)", "__len__(self)", "copy(self)"]},
+    "booths": {"Booth": [
+        "__init__(self, rule, width)", "put(self, name, code)", "drop(self, name)", "start(self, width)",
+        "move(self, count)", "enter(self, label)", "step(self, label)", "undo(self)", "finish(self, label)", "rule(self)",
+        "shape(self)", "names(self)", "told(self, label)", "stayed(self, label)", "is_over(self, label)",
+        "numbers_of(self, label)", "doubts_of(self, label)", "surely_told(self, label)", "can_stop(self, label)",
+        "__len__(self)", "copy(self)"]},
+    "shell": {"Shell": ["__init__(self)", "run(self, line)"]},
 }
 
 BUILTINS = """len range enumerate zip min max sum abs sorted reversed int str bool bytes list tuple dict set frozenset
