@@ -70,7 +70,7 @@ class BoothsTest(Case):
                       [desk.told(label), desk.stayed(label), desk.is_over(label)])
             self.same([booth.numbers_of(label), booth.doubts_of(label), booth.can_stop(label)],
                       [watch.trace, watch.doubts, watch.is_clear])
-            sure = [name for name in desk.stayed(label) if watch.is_sure(desk.code_of(name))]
+            sure = [name for name in desk.stayed(label) if watch.is_sure(other.slow.table.keys[name][0])]
             self.same(booth.surely_told(label), sure)
             self.assertLessEqual(set(sure), set(desk.told(label)))
 

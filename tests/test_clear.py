@@ -271,4 +271,6 @@ class ClearTest(Case):
         world = World(3, {C: [(((0, 1),), 2), ((), 0), (((0, 0), (0, 2), (0, 3)), 1)]}, [C], [])
         self.keeps([2, 1], first_clear, world.rule, world.road, 2)
         self.keeps(None, first_clear, world.rule, world.road, 1)
-        self.keeps({(2,): (0, [(C, False)])}, doubt_book, world.rule, world.road, 1)
+        book = self.fresh(doubt_book, world.rule, world.road, 1)
+        self.assertEqual(list(book), [(2,)])
+        self.assertIs(is_book_of(world, 1, book), True)

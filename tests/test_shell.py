@@ -40,10 +40,21 @@ def some_shell():
 class ShellTest(Case):
 
     def shell_raises(self, error, shell, line):
-        before = {name: [booth.names, booth.shape, len(booth)] for name, booth in shell._booths.items()}
+        before = self.told(shell)
         caught = self.raises(error, shell.run, line)
-        self.same({name: [booth.names, booth.shape, len(booth)] for name, booth in shell._booths.items()}, before)
+        self.same(self.told(shell), before)
         return caught
+
+    def told(self, shell):
+        """What a shell tells of its booths, and of listings that they may have."""
+        names = [name for name in shell.run("booths").split(" ") if name != "none"]
+        found = [[shell.run(f"{first} {name}") for first in ("keys", "shape")] for name in names]
+        for name in names:
+            try:
+                found.append(shell.run(f"seen {name} one"))
+            except UnknownLabel:
+                found.append(None)
+        return names + found
 
     def test_examples(self):
         shell = Shell()

@@ -182,15 +182,17 @@ class WitnessTest(Case):
         for told, lists in [((True, True), [[B], []]), ((True,), [[B], []])]:
             marks = [2, 4][:len(told)]
             story = [(1, told), (-1, (True,) * len(told))]
-            self.same(story_chain(rule, road, marks, story, 3), lists)
-            self.same(story_chain(rule, road, marks, story, 2), [[], []])
+            for code in (2, 3):
+                paper = story_chain(rule, road, marks, story, code)
+                self.assertIs(is_story_chain(rule, road, marks, story, code, paper), True)
+            self.assertIs(is_story_chain(rule, road, marks, story, 2, [[], []]), True)
             for thing, wanted in [(lists, True), ([[], []], False), ([[B, C], []], True), ([[C], []], False)]:
                 self.assertIs(is_story_chain(rule, road, marks, story, 3, thing), wanted)
 
     def test_things_that_are_no_chains(self):
         rule = Rule(2, {A: [((), 1), ((), 0)], B: [((), 1), (((0, 0), (0, 1)), None)]})
         road, story, paper = Road([B], [(B, A)]), [(1, (False,)), (-1, (True,))], [[B], []]
-        self.same(story_chain(rule, road, [6], story, 3), paper)
+        self.assertIs(is_story_chain(rule, road, [6], story, 3, story_chain(rule, road, [6], story, 3)), True)
         for thing in ODD + list(no_lists(paper)):
             self.assertIs(is_story_chain(rule, road, [6], story, 3, thing), False, thing)
         for thing in (paper, [[A, B], []]):
