@@ -267,6 +267,13 @@ class ClearTest(Case):
                 self.assertEqual(in_doubt(world.rule, world.road, trace), [])
                 self.assertIsNotNone(doubt_book(world.rule, world.road, len(trace) - 1) if len(trace) > 1 else 0)
 
+    def test_one_hash_in_doubt(self):
+        wide = (5,)
+        for code in (0, 9, 31):
+            rule = Rule(1, {wide: [(tuple((0, at) for at in range(32) if at != code), 0)]})
+            self.keeps({(0,): (code, [(wide, False)]), (0, 0): (code, [(wide, False)] * 2)}, doubt_book, rule,
+                       Road([wide], []), 2)
+
     def test_worlds_of_one_shape(self):
         world = World(3, {C: [(((0, 1),), 2), ((), 0), (((0, 0), (0, 2), (0, 3)), 1)]}, [C], [])
         self.keeps([2, 1], first_clear, world.rule, world.road, 2)
